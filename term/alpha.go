@@ -4,6 +4,7 @@ import (
 	"slices"
 
 	"spindle/api"
+	"spindle/datum"
 )
 
 // numbers are those that a program's locals get, by those that they have.
@@ -37,20 +38,11 @@ func (n numbers) bind(params []int) []int {
 
 // quoteApart is t with data that it shares with nothing. Its kids change in their place.
 func quoteApart(t api.Term) api.Term {
-	t.Data = copied(t.Data)
+	t.Data = datum.Copy(t.Data)
 	for i, kid := range t.Kids {
 		t.Kids[i] = quoteApart(kid)
 	}
 	return t
-}
-
-// copied is a datum like d that has its own items.
-func copied(d api.Datum) api.Datum {
-	d.Items = slices.Clone(d.Items)
-	for i, item := range d.Items {
-		d.Items[i] = copied(item)
-	}
-	return d
 }
 
 // areSame tells whether two terms have the same fields, all through.

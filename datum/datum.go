@@ -1,0 +1,38 @@
+// Package datum has what several layers do with data, right or not.
+package datum
+
+import (
+	"slices"
+
+	"spindle/api"
+	"spindle/read"
+)
+
+// Copy: one like d that shares nothing with it.
+func Copy(d api.Datum) api.Datum {
+	items := d.Items
+	d.Items = slices.Grow([]api.Datum(nil), len(items))
+	for _, item := range items {
+		d.Items = append(d.Items, Copy(item))
+	}
+	return d
+}
+
+// Fits: has d at most api.MaxTerms parts, and at most api.MaxDepth data within one another?
+func Fits(d api.Datum) bool {
+	// Few parts are looked through soon, also where data are shared or go round.
+	return read.Parts(d) <= api.MaxTerms && isWithin(d, api.MaxDepth)
+}
+
+// isWithin tells whether d has at most so many data within one another.
+func isWithin(d api.Datum, most int) bool {
+	if most == 0 {
+		return false
+	}
+	for _, item := range d.Items {
+		if !isWithin(item, most-1) {
+			return false
+		}
+	}
+	return true
+}

@@ -1,0 +1,87 @@
+package datum_test
+
+import (
+	"slices"
+	"testing"
+
+	"spindle/api"
+	"spindle/datum"
+	"spindle/read"
+)
+
+func list(items ...api.Datum) api.Datum { return api.Datum{Kind: api.DList, Items: items} }
+
+// same tells whether two data are alike in all fields.
+func same(a, b api.Datum) bool {
+	return a.Kind == b.Kind && a.N == b.N && a.Text == b.Text && slices.EqualFunc(a.Items, b.Items, same)
+}
+
+// times is so many times the same.
+func times(n int, d api.Datum) []api.Datum { return slices.Repeat([]api.Datum{d}, n) }
+
+// nest is n lists within one another.
+func nest(n int) api.Datum {
+	d := list()
+	for range n - 1 {
+		d = list(d)
+	}
+	return d
+}
+
+// spoil puts other things into all lists of d, into their spare room, too.
+func spoil(d api.Datum) {
+	for _, item := range d.Items {
+		spoil(item)
+	}
+	for i := range d.Items[:cap(d.Items)] {
+		d.Items[:cap(d.Items)][i] = api.Datum{Text: "spoilt"}
+	}
+}
+
+// A copy has all fields, right or not, and shares no list, with what it was made of or within itself.
+func TestCopy(t *testing.T) {
+	data, e := read.All(`a 1 #t #\a "s" () #() (a (b (c) . d) #(1 (2)) . "e") #(() #())`)
+	if e != nil {
+		t.Fatal(e)
+	}
+	twice := list(api.Datum{Kind: api.DSym, Text: "a"}, list())
+	for _, d := range append(data, api.Datum{}, api.Datum{Kind: -1, N: 5, Text: "\xff", Items: times(2, twice)}, api.Datum{Kind: api.DDot}, list(times(9, twice)...)) {
+		one, other := datum.Copy(d), datum.Copy(d)
+		if !same(one, d) {
+			t.Errorf("Copy(%+v) = %+v", d, one)
+		}
+		spoil(one)
+		if !same(other, d) {
+			t.Errorf("%+v changed with a copy", d)
+		}
+	}
+	d := datum.Copy(list(twice, twice))
+	spoil(d.Items[0])
+	if !same(d.Items[1], twice) {
+		t.Error("two lists of a copy share their items")
+	}
+	if d := datum.Copy(api.Datum{Kind: api.DList, Items: []api.Datum{}}); len(d.Items) > 0 {
+		t.Errorf("a copy of an empty list is %+v", d)
+	}
+}
+
+// At most 4000 parts, and at most 64 data within one another; all ends also where data go round.
+func TestFits(t *testing.T) {
+	for n := 1; n < 200; n++ {
+		if datum.Fits(nest(n)) != (n <= 64) || datum.Fits(list(list(), nest(n), list())) != (n < 64) {
+			t.Errorf("Fits of %d lists within one another isn't right", n)
+		}
+	}
+	for n := 3990; n < 4010; n++ {
+		if datum.Fits(list(times(n-1, api.Datum{Kind: 99})...)) != (n <= 4000) || datum.Fits(list(list(times(n-2, list())...))) != (n <= 4000) {
+			t.Errorf("Fits of %d parts isn't right", n)
+		}
+	}
+	round := list(list(), list())
+	round.Items[1].Items = round.Items
+	for _, d := range []api.Datum{round, nest(1 << 16), list(times(1000, list(times(1000, list())...))...)} {
+		if datum.Fits(d) {
+			t.Error("more than there may be fits")
+		}
+	}
+}
