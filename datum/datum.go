@@ -24,6 +24,15 @@ func Fits(d api.Datum) bool {
 	return read.Parts(d) <= api.MaxTerms && isWithin(d, api.MaxDepth)
 }
 
+// Row are the items of d's row, and its tail, if it has one. They are d's own.
+func Row(d api.Datum) (items, tail []api.Datum) {
+	n := len(d.Items)
+	if d.Kind == api.DDot && n > 0 {
+		n--
+	}
+	return d.Items[:n], d.Items[n:]
+}
+
 // isWithin tells whether d has at most so many data within one another.
 func isWithin(d api.Datum, most int) bool {
 	if most == 0 {

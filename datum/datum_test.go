@@ -85,3 +85,18 @@ func TestFits(t *testing.T) {
 		}
 	}
 }
+
+// A row is all that there is, but for the last item of a list with a full stop, which is the tail.
+func TestRow(t *testing.T) {
+	three := times(3, api.Datum{Kind: api.DInt})
+	for _, c := range []struct {
+		kind, n     int
+		items, tail int
+	}{{api.DList, 0, 0, 0}, {api.DList, 3, 3, 0}, {api.DVec, 0, 0, 0}, {api.DVec, 3, 3, 0}, {api.DDot, 0, 0, 0}, {api.DDot, 1, 0, 1}, {api.DDot, 2, 1, 1}, {api.DDot, 3, 2, 1}, {api.DInt, 0, 0, 0}, {api.DSym, 2, 2, 0}} {
+		d := api.Datum{Kind: c.kind, Items: three[:c.n]}
+		items, tail := datum.Row(d)
+		if len(items) != c.items || len(tail) != c.tail || !slices.EqualFunc(slices.Concat(items, tail), d.Items, same) {
+			t.Errorf("Row of %d items of the kind %d: %d and %d", c.n, c.kind, len(items), len(tail))
+		}
+	}
+}

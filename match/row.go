@@ -4,6 +4,7 @@ import (
 	"slices"
 
 	"spindle/api"
+	"spindle/datum"
 )
 
 // The parts of a row, and its tail.
@@ -20,7 +21,7 @@ type row [parts][]api.Datum
 
 // row is that of a pattern. An ellipsis that stands where it may not is left in it, as an item or the tail.
 func (n names) row(p api.Datum) row {
-	items, last := parted(p)
+	items, last := datum.Row(p)
 	at := slices.IndexFunc(items, n.isEllipsis)
 	if at < 1 {
 		return row{front: items, tail: last}
@@ -30,7 +31,7 @@ func (n names) row(p api.Datum) row {
 
 // lay is what stands in d, laid out as in the row of a pattern of that kind; false, if it can't be.
 func (r row) lay(kind int, d api.Datum) (row, bool) {
-	items, _ := parted(d)
+	items, _ := datum.Row(d)
 	first, last := len(r[front]), len(items)-len(r[back])
 	if !takes(kind, d.Kind) || last < first {
 		return row{}, false
@@ -50,15 +51,6 @@ func (r row) lay(kind int, d api.Datum) (row, bool) {
 // takes tells whether a pattern's row of one kind may be matched by one of the other.
 func takes(pattern, kind int) bool {
 	return kind == pattern || pattern == api.DDot && kind == api.DList
-}
-
-// parted are the items of d's row, and its tail, if it has one.
-func parted(d api.Datum) (items, last []api.Datum) {
-	n := len(d.Items)
-	if d.Kind == api.DDot && n > 0 {
-		n--
-	}
-	return d.Items[:n], d.Items[n:]
 }
 
 // behind is what stands behind the first n items of d's row.
