@@ -10,10 +10,18 @@ import (
 
 // Copy: one like d that shares nothing with it.
 func Copy(d api.Datum) api.Datum {
+	return Rename(d, func(name string) string { return name })
+}
+
+// Rename: one like d that shares nothing with it, in which each name is what call says of it.
+func Rename(d api.Datum, call func(name string) string) api.Datum {
+	if d.Kind == api.DSym {
+		d.Text = call(d.Text)
+	}
 	items := d.Items
 	d.Items = slices.Grow([]api.Datum(nil), len(items))
 	for _, item := range items {
-		d.Items = append(d.Items, Copy(item))
+		d.Items = append(d.Items, Rename(item, call))
 	}
 	return d
 }
@@ -31,6 +39,14 @@ func Row(d api.Datum) (items, tail []api.Datum) {
 		n--
 	}
 	return d.Items[:n], d.Items[n:]
+}
+
+// Behind is what stands behind the first n items of d's row: its tail alone, where all its items are ahead. It is d's own.
+func Behind(d api.Datum, n int) api.Datum {
+	if d.Kind == api.DDot && n == len(d.Items)-1 {
+		return d.Items[n]
+	}
+	return api.Datum{Kind: d.Kind, Items: d.Items[n:]}
 }
 
 // isWithin tells whether d has at most so many data within one another.

@@ -100,3 +100,46 @@ func TestRow(t *testing.T) {
 		}
 	}
 }
+
+// What stands behind some items: the rest of them, with the tail, or the tail alone.
+func TestBehind(t *testing.T) {
+	read := func(text string) api.Datum {
+		all, e := read.All(text)
+		if e != nil {
+			t.Fatal(e)
+		}
+		return all[0]
+	}
+	for _, c := range []struct {
+		text string
+		n    int
+		want string
+	}{{"(a b c)", 0, "(a b c)"}, {"(a b c)", 1, "(b c)"}, {"(a b c)", 3, "()"}, {"()", 0, "()"}, {"#(a b)", 1, "#(b)"}, {"#(a)", 1, "#()"}, {"(a b . c)", 0, "(a b . c)"}, {"(a b . c)", 1, "(b . c)"}, {"(a b . c)", 2, "c"}, {"(a . #(b))", 1, "#(b)"}} {
+		if d := datum.Behind(read(c.text), c.n); !same(d, read(c.want)) {
+			t.Errorf("behind %d of %s: %+v", c.n, c.text, d)
+		}
+	}
+}
+
+// Names, and nothing but them, are what they are called, in new memory.
+func TestRename(t *testing.T) {
+	all, e := read.All(`a (b "a" #\a (a . b) #(a 1 c)) ((x . b) "" #() . d)`)
+	if e != nil {
+		t.Fatal(e)
+	}
+	want, e := read.All(`aa (bb "a" #\a (aa . bb) #(aa 1 cc)) ((xx . bb) "" #() . dd)`)
+	if e != nil {
+		t.Fatal(e)
+	}
+	for i, d := range all {
+		one := datum.Rename(d, func(name string) string { return name + name })
+		if !same(one, want[i]) {
+			t.Errorf("%+v is renamed to %+v", d, one)
+		}
+		before := datum.Copy(d)
+		spoil(one)
+		if !same(d, before) {
+			t.Errorf("%+v changed with what it was renamed to", d)
+		}
+	}
+}

@@ -42,7 +42,7 @@ func (r row) lay(kind int, d api.Datum) (row, bool) {
 	end := last + len(r[back])
 	laid := row{front: items[:first], middle: items[first:last], back: items[last:end]}
 	if kind == api.DDot {
-		laid[tail] = []api.Datum{behind(d, end)}
+		laid[tail] = []api.Datum{datum.Behind(d, end)}
 		return laid, true
 	}
 	return laid, end == len(items)
@@ -51,12 +51,4 @@ func (r row) lay(kind int, d api.Datum) (row, bool) {
 // takes tells whether a pattern's row of one kind may be matched by one of the other.
 func takes(pattern, kind int) bool {
 	return kind == pattern || pattern == api.DDot && kind == api.DList
-}
-
-// behind is what stands behind the first n items of d's row.
-func behind(d api.Datum, n int) api.Datum {
-	if d.Kind == api.DDot && n == len(d.Items)-1 {
-		return d.Items[n]
-	}
-	return api.Datum{Kind: d.Kind, Items: d.Items[n:]}
 }
