@@ -32,6 +32,19 @@ func Fits(d api.Datum) bool {
 	return read.Parts(d) <= api.MaxTerms && isWithin(d, api.MaxDepth)
 }
 
+// Quotable: is d what a term may quote: a right datum, nothing in particular, or no value yet?
+func Quotable(d api.Datum) bool {
+	if d.Kind == 0 && d.N == 1 {
+		d.N = 0
+	}
+	return Nothing(d) || read.Check(d) == nil
+}
+
+// Nothing: are all fields of d zero?
+func Nothing(d api.Datum) bool {
+	return d.Kind == 0 && d.N == 0 && d.Text == "" && len(d.Items) == 0
+}
+
 // Row are the items of d's row, and its tail, if it has one. They are d's own.
 func Row(d api.Datum) (items, tail []api.Datum) {
 	n := len(d.Items)

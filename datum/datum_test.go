@@ -143,3 +143,39 @@ func TestRename(t *testing.T) {
 		}
 	}
 }
+
+// What a term may quote: right data, nothing in particular, no value yet.
+func TestQuotable(t *testing.T) {
+	round := list(list(), list())
+	round.Items[1].Items = round.Items
+	for _, c := range []struct {
+		d                 api.Datum
+		nothing, quotable bool
+	}{
+		{api.Datum{}, true, true},
+		{api.Datum{Items: []api.Datum{}}, true, true},
+		{api.Datum{N: 1}, false, true},
+		{api.Datum{N: 1, Items: []api.Datum{}}, false, true},
+		{api.Datum{N: 2}, false, false},
+		{api.Datum{N: -1}, false, false},
+		{api.Datum{Text: "a"}, false, false},
+		{api.Datum{N: 1, Text: "a"}, false, false},
+		{api.Datum{Items: times(1, list())}, false, false},
+		{api.Datum{N: 1, Items: times(1, list())}, false, false},
+		{api.Datum{Kind: api.DInt}, false, true},
+		{api.Datum{Kind: api.DInt, N: 1}, false, true},
+		{api.Datum{Kind: api.DBool, N: 2}, false, false},
+		{api.Datum{Kind: api.DSym}, false, false},
+		{api.Datum{Kind: 9, N: 1}, false, false},
+		{list(), false, true},
+		{list(api.Datum{}), false, false},
+		{list(api.Datum{N: 1}), false, false},
+		{nest(64), false, true},
+		{nest(65), false, false},
+		{round, false, false},
+	} {
+		if datum.Nothing(c.d) != c.nothing || datum.Quotable(c.d) != c.quotable {
+			t.Errorf("Nothing, Quotable of a datum of the kind %d aren't %v, %v", c.d.Kind, c.nothing, c.quotable)
+		}
+	}
+}

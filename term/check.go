@@ -2,8 +2,8 @@ package term
 
 import (
 	"spindle/api"
+	"spindle/datum"
 	"spindle/lex"
-	"spindle/read"
 )
 
 const mostWithin = 200 // terms within one another
@@ -38,7 +38,7 @@ func (l locals) fits(t api.Term) bool {
 	// What the kind names is looked at and put aside: all that is left must be zero.
 	switch t.Kind {
 	case api.CQuote:
-		ok = kids == 0 && isQuotable(t.Data)
+		ok = kids == 0 && datum.Quotable(t.Data)
 		t.Data = api.Datum{}
 	case api.CSet:
 		kids--
@@ -65,25 +65,12 @@ func (l locals) fits(t api.Term) bool {
 	case api.CBegin:
 		ok = kids > 0
 	}
-	return ok && t.N == 0 && t.Name == "" && len(t.Params) == 0 && isNothing(t.Data)
+	return ok && t.N == 0 && t.Name == "" && len(t.Params) == 0 && datum.Nothing(t.Data)
 }
 
 // takesParams tells whether a procedure may have as many Params, and take the rest if it does.
 func takesParams(t api.Term) bool {
 	return len(t.Params) <= api.MaxParams && t.N >= 0 && t.N <= min(1, len(t.Params))
-}
-
-// isQuotable tells whether d is a right datum, nothing in particular, or no value yet.
-func isQuotable(d api.Datum) bool {
-	if d.Kind == 0 && d.N == 1 {
-		d.N = 0
-	}
-	return isNothing(d) || read.Check(d) == nil
-}
-
-// isNothing tells whether all fields of d are zero.
-func isNothing(d api.Datum) bool {
-	return d.Kind == 0 && d.N == 0 && d.Text == "" && len(d.Items) == 0
 }
 
 // enter goes into the procedure that has these Params; it tells whether each may be one, and is met for the first time.
